@@ -1,6 +1,6 @@
 """Checks of arguments that many functions take, with the errors for them."""
 
-from patternways.errors import BadPattern, BadRules, BadSize, BadTable, BadText
+from patternways.errors import BadPattern, BadRow, BadRules, BadSize, BadTable, BadText
 from patternways.kinds import LETTERS, is_between, is_short_text, is_size, is_text, is_tuple_of
 from patternways.machines import first_texts
 from patternways.patterns import weight_of
@@ -9,6 +9,7 @@ MOST_STANDS = 40
 MOST_RULES = 4
 MOST_WEIGHTS = 10
 MOST_PUT = 3
+MOST_ROW = 3
 
 
 def check_size(size):
@@ -31,7 +32,7 @@ def check_text(size, text):
 
 def check_table(table):
     """Raise BadTable if this is no table with at most 40 stands."""
-    if not _is_table(table):
+    if not is_table(table):
         raise BadTable("this is no table with at most 40 stands")
 
 
@@ -42,19 +43,37 @@ def table_size(table):
 
 def check_rules(rules):
     """Raise BadRules if these are no rules."""
+    fault = _rules_fault(rules)
+    if fault is not None:
+        raise BadRules(fault[0])
+
+
+def check_is_row(row):
+    """Raise BadRow if this is no row."""
+    if not isinstance(row, tuple) or not 1 <= len(row) <= MOST_ROW:
+        raise BadRow("a row is a tuple of one to three rules")
+    if not all([_rules_fault(rules) is None for rules in row]):
+        raise BadRow("something in the row is no rules")
+    if not all([rules[0] == row[0][0] for rules in row]):
+        raise BadRow("the rules of a row are of one size")
+
+
+def _rules_fault(rules):
+    """Return None for rules, otherwise a tuple of the index that BadRules has."""
     if not is_tuple_of(rules, 2) or not is_size(rules[0]):
-        raise BadRules(None)
+        return (None,)
     size, items = rules
     if not isinstance(items, tuple) or not 1 <= len(items) <= MOST_RULES:
-        raise BadRules(None)
+        return (None,)
     weights = 0
     for index, item in enumerate(items):
         if not is_tuple_of(item, 2):
-            raise BadRules(index)
+            return (index,)
         weight = weight_of(size, item[0])
         if weight is None or weights + weight > MOST_WEIGHTS or not _is_put(size, item[1]):
-            raise BadRules(index)
+            return (index,)
         weights += weight
+    return None
 
 
 def _is_put(size, put):
@@ -65,7 +84,8 @@ def _is_put(size, put):
     return all([is_short_text(size, text, MOST_PUT) for text in put[1:]])
 
 
-def _is_table(table):
+def is_table(table):
+    """Return whether something is a table with at most 40 stands."""
     if not is_tuple_of(table, 2) or not isinstance(table[0], tuple) or not isinstance(table[1], tuple):
         return False
     rows, ends = table

@@ -1,10 +1,10 @@
 """Cuts: texts behind which there is a border, wherever they are."""
 
 from patternways.checks import check_text, table_size
-from patternways.kinds import bits, copied_list, is_integer, is_text, is_tuple_of, letter_numbers
+from patternways.kinds import bits, copied_list, is_text, letter_numbers
 from patternways.machines import explored, first_texts
 from patternways.rules import table_of_rules
-from patternways.spots import spots_and_moves
+from patternways.spots import is_spot_like, spots_and_moves
 
 MOST_LOTS = 200
 
@@ -70,7 +70,7 @@ class NoCut:
         numbers = {spot: number for number, spot in enumerate(net.spots)}
         known = {}
         for lot in self.lots:
-            if not all([_is_spot(spot) and spot in numbers for spot in lot]):
+            if not all([is_spot_like(spot) and spot in numbers for spot in lot]):
                 return False
             known[_mask([numbers[spot] for spot in lot])] = True
         if net.whole() not in known or any([net.is_border(lot) for lot in known]):
@@ -120,10 +120,3 @@ def _mask(numbers):
     for number in numbers:
         mask |= 1 << number
     return mask
-
-
-def _is_spot(spot):
-    """Return whether something has the form of a spot."""
-    if not is_tuple_of(spot, 2) or not isinstance(spot[1], tuple):
-        return False
-    return all([item is None or is_integer(item) for item in (spot[0], *spot[1])])

@@ -3,7 +3,7 @@
 from patternways.checks import check_text, table_size
 from patternways.errors import BadNumber
 from patternways.kinds import LETTERS, copied, is_between, is_integer, is_text, is_tuple_of, letter_numbers
-from patternways.machines import first_texts, stand_after
+from patternways.machines import first_texts, heights_of, stand_after
 from patternways.outlooks import alive_stands, pieces_of, sure_behind
 from patternways.rules import table_of_rules
 
@@ -56,7 +56,7 @@ def judge_look(rules):
     """Return a Look or an Endless."""
     table = table_of_rules(rules)
     goals = _goals(table)
-    heights = _heights(goals)
+    heights = heights_of(goals)
     if len(heights) < len(goals):
         return _endless(table, goals, heights)
     if not heights:
@@ -110,19 +110,6 @@ def _goals(table):
                 goals[later] = _ways_on(table, alive, later)
                 stands.append(later)
     return goals
-
-
-def _heights(goals):
-    """Return how many letters can be gone on from each stand, without those from which one can go on for ever."""
-    heights = {}
-    grows = True
-    while grows:
-        grows = False
-        for stand, ways in goals.items():
-            if stand not in heights and all([later in heights for _, later in ways]):
-                heights[stand] = max([heights[later] + 1 for _, later in ways], default=0)
-                grows = True
-    return heights
 
 
 def _begin(table, stands):

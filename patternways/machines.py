@@ -28,6 +28,49 @@ def explored(start, step, size, most=None):
     return found, rows
 
 
+def explored_ahead(start, step, size, most):
+    """Return all that is come to from a start by letters put ahead, its rows, and the first texts that have it.
+
+    step(thing, letter) tells what a text has that is the letter with this number and, behind it, a text that has
+    the thing. What is found is numbered in the order of the first texts that have it, the empty text first; if it
+    is more than most, the error is TooLarge.
+    """
+    found = [start]
+    numbers = {start: 0}
+    texts = [""]
+    rows = [[0] * size]
+    level = [0]
+    while level:
+        # of texts of one length, those with a lesser first letter come first, then those with lesser letters behind
+        longer = []
+        for letter in range(size):
+            for number in level:
+                thing = step(found[number], letter)
+                if thing not in numbers:
+                    numbers[thing] = len(found)
+                    longer.append(len(found))
+                    found.append(thing)
+                    texts.append(LETTERS[letter] + texts[number])
+                    rows.append([0] * size)
+                rows[number][letter] = numbers[thing]
+                if len(found) > most:
+                    raise TooLarge(f"there are more than {most}")
+        level = longer
+    return found, rows, texts
+
+
+def ways_behind(rows):
+    """Return, for each number of what explored_ahead finds, a list of pairs of a letter and a later number.
+
+    A text with the later number, and with the letter ahead of it, has the first number.
+    """
+    ways = [[] for _ in rows]
+    for later, row in enumerate(rows):
+        for letter, number in enumerate(row):
+            ways[number].append((letter, later))
+    return ways
+
+
 def first_texts(rows, start=0):
     """Return a dict from all stands that are come to from a start to the first texts that lead there, in order."""
     texts = {start: ""}
@@ -40,6 +83,15 @@ def first_texts(rows, start=0):
                 texts[later] = texts[stand] + LETTERS[letter]
                 queue.append(later)
         at += 1
+    return texts
+
+
+def texts_behind(rows):
+    """Return a dict from all stands to which one letter or more lead from stand 0 to such a text for each."""
+    texts = {}
+    for letter, stand in enumerate(rows[0]):
+        for later, text in first_texts(rows, stand).items():
+            texts.setdefault(later, LETTERS[letter] + text)
     return texts
 
 
@@ -59,6 +111,43 @@ def leading_to(rows, marked):
         leads = [any([marked[later] or before[later] for later in row]) for row in rows]
         grows = leads != before
     return leads
+
+
+def text_by(before, thing):
+    """Return the text by which a thing was come to: before has for each thing that ahead of it and the letter, or None.
+    """
+    letters = []
+    while before[thing] is not None:
+        thing, letter = before[thing]
+        letters.append(LETTERS[letter])
+    letters.reverse()
+    return "".join(letters)
+
+
+def heights_of(goals):
+    """Return how many letters can be gone on from each goal, without those from which one can go on for ever.
+
+    goals is a dict from goals to lists of pairs of a letter and a goal.
+    """
+    left = {goal: len(ways) for goal, ways in goals.items()}
+    ahead = {goal: [] for goal in goals}
+    for goal, ways in goals.items():
+        for _, later in ways:
+            ahead[later].append(goal)
+    heights = {}
+    level = [goal for goal in goals if left[goal] == 0]
+    height = 0
+    while level:
+        higher = []
+        for goal in level:
+            heights[goal] = height
+            for before in ahead[goal]:
+                left[before] -= 1
+                if left[before] == 0:
+                    higher.append(before)
+        level = higher
+        height += 1
+    return heights
 
 
 def least_of(rows, marks):

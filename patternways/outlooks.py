@@ -43,19 +43,33 @@ def stand_behind(table, stand, outlook, letter, later):
     return None if later[target] is None else target
 
 
+def spots_along(table, text):
+    """Return the spots of all places of a text, from place 0 on."""
+    letters = letter_numbers(text)
+    views = Outlooks(table).along(letters)
+    found = [(None, views[0])]
+    stand = None
+    for place, letter in enumerate(letters):
+        stand = stand_behind(table, stand, views[place], letter, views[place + 1])
+        found.append((stand, views[place + 1]))
+    return found
+
+
+def kind_at(stand, view):
+    """Return the kind of the piece that goes on, or begins, at a spot."""
+    return view[0 if stand is None else stand]
+
+
 def pieces_of(table, text):
     """Return the list of the pieces of a text."""
-    letters = letter_numbers(text)
-    outlooks = Outlooks(table).along(letters)
+    spots = spots_along(table, text)
     found = []
-    stand = None
     first = 0
-    for place, letter in enumerate(letters):
-        stand = stand_behind(table, stand, outlooks[place], letter, outlooks[place + 1])
-        if stand is None:
+    for past in range(1, len(spots)):
+        if spots[past][0] is None:
             # the first item of the outlook at the beginning of a piece is its kind
-            found.append((outlooks[first][0], first, place + 1))
-            first = place + 1
+            found.append((spots[first][1][0], first, past))
+            first = past
     return found
 
 

@@ -4,6 +4,7 @@ from patternways.checks import check_text
 from patternways.errors import BadEdit
 from patternways.kinds import is_between, is_text, is_tuple_of, letter_numbers
 from patternways.outlooks import Outlooks, pieces_of
+from patternways.puts import put_along
 from patternways.rules import table_of_rules
 from patternways.spots import spots_and_moves
 
@@ -17,7 +18,9 @@ def pieces(rules, text):
 
 def change(rules, text):
     """Return what comes of a text."""
-    return "".join([_put_for(rules, text, piece) for piece in pieces(rules, text)])
+    table = table_of_rules(rules)
+    check_text(rules[0], text)
+    return "".join(put_along(rules, table, text))
 
 
 def outlook(rules, text):
@@ -46,16 +49,6 @@ def edited(rules, text, edit):
     ends = [_from_end(before[first:], len(text)), _from_end(after[first:], len(later))]
     last = _same_first(ends[0], ends[1])
     return first, after[first:len(after) - last], last
-
-
-def _put_for(rules, text, piece):
-    kind, first, past = piece
-    if kind is None:
-        return text[first:past]
-    put = rules[1][kind][1]
-    if put[0] == "word":
-        return put[1]
-    return put[1] + text[first:past] + put[2]
 
 
 def _is_edit(size, text, edit):

@@ -183,3 +183,34 @@ def good_table(chance, size, most):
 def chances(many, start=0):
     """Sources of made-up arguments, the same ones each time."""
     return [random.Random(start + number) for number in range(many)]
+
+
+def few_pattern(chance, size):
+    """A pattern of some letters in a row, some of them again."""
+    parts = []
+    for _ in range(chance.randint(1, 4)):
+        many = chance.randint(1, size) if chance.random() < 0.4 else 1
+        part = ("one", "".join(sorted(chance.sample("abc"[:size], many))))
+        dice = chance.random()
+        if dice < 0.2:
+            part = ("again", part, chance.randint(0, 1), None, "many")
+        elif dice < 0.3:
+            part = ("again", part, chance.randint(0, 2), chance.randint(2, 3), "few")
+        parts.append(part)
+    return parts[0] if len(parts) == 1 else ("row", *parts)
+
+
+def few_rules(chance, size, most=3):
+    """Rules of a size with such patterns: less is made up, but more comes about by them."""
+    while True:
+        items = [(few_pattern(chance, size), some_put(chance, size)) for _ in range(chance.randint(1, most))]
+        try:
+            check_rules((size, tuple(items)))
+        except BadRules:
+            continue
+        return (size, tuple(items))
+
+
+def few_row(chance, size, many):
+    """A row of so many such rules."""
+    return tuple(few_rules(chance, size) for _ in range(many))

@@ -2,14 +2,24 @@
 
 import unittest
 
+from patternways.agreeing import agreement, judge_agreement
+from patternways.alike import are_alike as are_rows_alike
+from patternways.alike import compare
 from patternways.cuts import first_cut, is_cut
+from patternways.joins import come_back, free_pairs
+from patternways.learning import enough, judge_enough
 from patternways.looks import judge_look, look, sure
 from patternways.readings import change, edited, pieces
+from patternways.rows import changed, prospects, rests, standing
+from patternways.settling import exchange, settle
 from patternways.tables import are_alike, is_within, table_of
+from patternways.telling import sure as sure_to_come
+from patternways.telling import telling
 from patternways.words import count_words, how_many, nth_word, word_index
 
 
 class Examples(unittest.TestCase):
+    swap = (2, ((('one', 'a'), ('word', 'b')), (('one', 'b'), ('word', 'a'))))
     rules = (2, ((('row', ('one', 'a'), ('one', 'a'), ('one', 'b')), ('word', '')), (('one', 'b'), ('round', 'a', 'b'))))
 
     def test_tables(self):
@@ -38,6 +48,43 @@ class Examples(unittest.TestCase):
 
     def test_cuts(self):
         self.assertEqual([first_cut(self.rules), is_cut(self.rules, 'a'), is_cut(self.rules, 'ab')], ['b', False, True])
+
+    def test_agreeing(self):
+        twos = (2, ((('row', ('one', 'a'), ('one', 'a')), ('word', 'a')),))
+        self.assertEqual([agreement(self.rules), agreement(twos), judge_agreement(twos).shows(twos)], [2, None, True])
+
+    def test_joins(self):
+        rules = (2, ((('one', 'a'), ('word', '')), (('row', ('one', 'a'), ('one', 'a')), ('word', 'b'))))
+        self.assertEqual([free_pairs(rules), come_back(rules, [(1, 'aa'), (0, 'a')]),
+                          come_back(rules, [(0, 'a'), (1, 'aa')])],
+                         [[(None, None), (None, 0), (None, 1), (0, None), (1, None), (1, 0), (1, 1)], True, False])
+
+    def test_learning(self):
+        even = (((1, 0), (0, 1)), (True, False))
+        self.assertEqual([enough(even, 1), enough(even, 2), judge_enough(even, 2).shows(even, 2)], [2, 5, True])
+
+    def test_rows(self):
+        mark = (2, ((('row', ('again', ('one', 'a'), 0, None, 'many'), ('one', 'b')), ('round', 'b', 'a')),))
+        self.assertEqual([changed((mark, self.swap), 'aab'), standing((mark, self.swap), 'aab', 2),
+                          prospects((mark,), 'ab'), rests((mark,)), rests((self.swap,))],
+                         ['abbab', ((0, None), 'abb'), ((0, None, None), ()), ['', 'b'], ['', 'a', 'b']])
+
+    def test_alike(self):
+        swap, nothing = self.swap, (2, ((('none',), ('word', '')),))
+        self.assertEqual([are_rows_alike((swap, swap), (nothing,)), are_rows_alike((swap,), (nothing,)),
+                          compare((swap,), (nothing,)).shows((swap,), (nothing,))], [True, False, True])
+
+    def test_settling(self):
+        swap, drop = self.swap, (2, ((('again', ('one', 'a'), 1, None, 'few'), ('word', '')),))
+        self.assertEqual([settle(drop).number, len(settle(swap).texts),
+                          exchange(swap, swap).shows((swap, swap), (swap, swap))], [1, 3, True])
+
+    def test_telling(self):
+        lag = (2, ((('row', ('again', ('one', 'a'), 1, None, 'many'), ('one', 'b')), ('word', 'b')),))
+        found = telling((self.swap,))
+        self.assertEqual([len(found), found.tell('abba'), found.moves[(0, 'a')], sure_to_come((lag,), 'aa'),
+                          sure_to_come((lag,), 'baa'), telling((lag,)).shows((lag,))],
+                         [1, 'baab', (0, 'b'), '', 'b', True])
 
 
 if __name__ == "__main__":

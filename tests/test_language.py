@@ -145,6 +145,12 @@ class Language(unittest.TestCase):
                   ast.Pow, ast.Mod, ast.MatMult)
         for name, node in nodes(barred):
             self.fail_at(name, node, type(node).__name__)
+        for name, node in nodes(ast.Starred):
+            if not isinstance(node.value, (ast.Name, ast.Attribute, ast.Subscript)):
+                self.fail_at(name, node, "star over what is no name")
+        for name, node in nodes(ast.FunctionDef):
+            if node.name == "__init__" and any(isinstance(part, (ast.Return, ast.Lambda)) for part in ast.walk(node)):
+                self.fail_at(name, node, "something is returned in __init__")
         for name, node in nodes(ast.Compare):
             for sign, other in zip(node.ops, node.comparators):
                 if isinstance(sign, (ast.Is, ast.IsNot)) and not (
