@@ -2,6 +2,7 @@
 
 from patternways.courses import common_beginning
 from patternways.kinds import letter_numbers
+from patternways.pairs import ways_from
 
 
 class Futures:
@@ -12,34 +13,16 @@ class Futures:
     """
 
     def __init__(self, rests, starts):
-        self.rests = rests
-        self.ways = {}
+        self.ways = ways_from(rests, starts)
         self.sure = {}
-        self._explore(starts)
         self._shorten()
-
-    def _explore(self, starts):
-        waiting = list(starts)
-        while waiting:
-            pair = waiting.pop()
-            if pair not in self.ways:
-                self.ways[pair] = self._ways_on(pair)
-                waiting.extend([later for _, later in self.ways[pair]])
-
-    def _ways_on(self, pair):
-        """Return what comes by each letter and rest that can be next, and the pair behind it."""
-        found = []
-        for letter, rest in self.rests.ways[pair[0]]:
-            standing, text = self.rests.stepped(0, pair[1], letter, rest)
-            found.append((text, (rest, standing)))
-        return found
 
     def _shorten(self):
         # behind the empty text nothing more comes; each other pair begins with what is known of one way on, and is
         # shortened to what all its ways on begin with, until nothing changes
         before = {pair: [] for pair in self.ways}
         for pair, ways in self.ways.items():
-            for _, later in ways:
+            for _, later, _ in ways:
                 before[later].append(pair)
         waiting = [pair for pair in self.ways if pair[0] == 0]
         for pair in waiting:
@@ -59,7 +42,7 @@ class Futures:
         if pair[0] == 0:
             return False
         text = None
-        for part, later in self.ways[pair]:
+        for _, later, part in self.ways[pair]:
             if later in self.sure:
                 whole = part + self.sure[later]
                 text = whole if text is None else common_beginning(text, whole)

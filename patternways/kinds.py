@@ -34,6 +34,13 @@ def is_tuple_of(value, many):
     return isinstance(value, tuple) and len(value) == many
 
 
+def is_same(one, other):
+    """Return whether two values are equal, also in what is boolean in them."""
+    if isinstance(one, tuple) and isinstance(other, tuple):
+        return len(one) == len(other) and all([is_same(item, same) for item, same in zip(one, other)])
+    return isinstance(one, bool) == isinstance(other, bool) and one == other
+
+
 def letter_numbers(text):
     """Return the numbers of the letters of a text."""
     return [LETTERS.index(letter) for letter in text]
@@ -41,7 +48,12 @@ def letter_numbers(text):
 
 def bits(mask):
     """Return the numbers of the bits that are set in an integer, ascending."""
-    return [bit for bit in range(mask.bit_length()) if mask >> bit & 1]
+    found = []
+    while mask:
+        lowest = mask & -mask
+        found.append(lowest.bit_length() - 1)
+        mask ^= lowest
+    return found
 
 
 def copied(value):

@@ -4,6 +4,7 @@ from patternways.courses import common_beginning, parted
 from patternways.futures import Futures
 from patternways.kinds import LETTERS
 from patternways.machines import least_of
+from patternways.pairs import starts_of
 
 
 class Families:
@@ -16,7 +17,7 @@ class Families:
         self.rests = rests
         start = rests.start(0)
         many = range(len(rests.texts))
-        self.futures = Futures(rests, [(rest, start) for rest in many])
+        self.futures = Futures(rests, starts_of(rests))
         self.found = [tuple([(start, "", "") for _ in many])]
         self.rows = []
         self.texts = []

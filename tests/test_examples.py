@@ -5,6 +5,7 @@ import unittest
 from patternways.agreeing import agreement, judge_agreement
 from patternways.alike import are_alike as are_rows_alike
 from patternways.alike import compare
+from patternways.coming import comes, source
 from patternways.cuts import first_cut, is_cut
 from patternways.joins import come_back, free_pairs
 from patternways.learning import enough, judge_enough
@@ -12,9 +13,12 @@ from patternways.looks import judge_look, look, sure
 from patternways.readings import change, edited, pieces
 from patternways.rows import changed, prospects, rests, standing
 from patternways.settling import exchange, settle
+from patternways.spans import compare_groups
 from patternways.tables import are_alike, is_within, table_of
 from patternways.telling import sure as sure_to_come
 from patternways.telling import telling
+from patternways.trying import growth, tries, widths
+from patternways.ways import first_way, ways
 from patternways.words import count_words, how_many, nth_word, word_index
 
 
@@ -85,6 +89,27 @@ class Examples(unittest.TestCase):
         self.assertEqual([len(found), found.tell('abba'), found.moves[(0, 'a')], sure_to_come((lag,), 'aa'),
                           sure_to_come((lag,), 'baa'), telling((lag,)).shows((lag,))],
                          [1, 'baab', (0, 'b'), '', 'b', True])
+
+    def test_coming(self):
+        swap, drop = self.swap, (2, ((('again', ('one', 'a'), 1, None, 'few'), ('word', '')),))
+        self.assertEqual([comes((drop,)), source((swap,), 'ab').text, source((drop,), 'ba').shows((drop,), 'ba')],
+                         [(((1, 0), (1, 1)), (True, False)), 'ba', True])
+
+    def test_spans(self):
+        many = ('row', ('group', ('again', ('one', 'a'), 0, None, 'many')),
+                ('group', ('again', ('one', 'a'), 0, None, 'many')))
+        few = ('row', ('group', ('again', ('one', 'a'), 0, None, 'few')),
+               ('group', ('again', ('one', 'a'), 0, None, 'many')))
+        last = ('again', ('any', ('group', ('one', 'a')), ('one', 'b')), 0, None, 'many')
+        self.assertEqual([first_way(1, many, 'aa'), ways(1, few, 'aa'), first_way(2, last, 'bab'),
+                          compare_groups(1, many, few).shows(1, many, few)],
+                         [((0, 2), (2, 2)), [((0, 0), (0, 2)), ((0, 1), (1, 2)), ((0, 2), (2, 2))], ((1, 2),), True])
+
+    def test_trying(self):
+        twos = ('row', ('again', ('one', 'a'), 0, None, 'many'), ('again', ('one', 'a'), 0, None, 'many'))
+        deep = ('again', ('again', ('one', 'a'), 0, None, 'many'), 0, None, 'few')
+        self.assertEqual([widths(1, twos, 'aa'), tries(1, twos, 'aa'), growth(1, twos).number,
+                          growth(1, deep).shows(1, deep)], [[3, 5, 7], 15, 1, True])
 
 
 if __name__ == "__main__":
