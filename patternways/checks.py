@@ -48,11 +48,16 @@ def check_rules(rules):
         raise BadRules(fault[0])
 
 
+def are_rules(rules):
+    """Return whether these are rules."""
+    return _rules_fault(rules) is None
+
+
 def check_is_row(row):
     """Raise BadRow if this is no row."""
     if not isinstance(row, tuple) or not 1 <= len(row) <= MOST_ROW:
         raise BadRow("a row is a tuple of one to three rules")
-    if not all([_rules_fault(rules) is None for rules in row]):
+    if not all([are_rules(rules) for rules in row]):
         raise BadRow("something in the row is no rules")
     if not all([rules[0] == row[0][0] for rules in row]):
         raise BadRow("the rules of a row are of one size")

@@ -127,7 +127,7 @@ class Climbs:
         """Return the greatest number of pairs of a ladder."""
         return max(self.levels.values(), default=0)
 
-    def ladder(self):
+    def find_ladder(self):
         """Return a longest ladder: a list of pairs that climb."""
         found = []
         for level in reversed(range(self.power())):

@@ -29,7 +29,7 @@ class Net:
             found |= moves[place]
         return found
 
-    def ahead(self, places, letter):
+    def leading_to(self, places, letter):
         """Return the places from which a letter leads to one of some places."""
         return sum([1 << place for place, later in self.moves[letter].items() if later & places])
 
@@ -112,6 +112,6 @@ def _filled(places, laws):
 def _test_for(net, queue, at, test):
     """Return all places from which the letters that led to what stands in a queue lead to a place of a test."""
     while queue[at][2] is not None:
-        test = net.ahead(test, queue[at][3])
+        test = net.leading_to(test, queue[at][3])
         at = queue[at][2]
     return test

@@ -5,6 +5,8 @@ from patternways.kinds import LETTERS, is_between, is_text, is_tuple_of
 MOST_PARTS = 12
 MOST_WEIGHT = 8
 MOST_TURNS = 3
+LEAST_IN_ROW = 2
+MOST_IN_ROW = 4
 
 
 def inner_patterns(pattern):
@@ -47,7 +49,7 @@ def _is_part(size, part):
     if word == "one":
         return len(part) == 2 and _are_letters(size, part[1])
     if word in ("row", "any"):
-        return 3 <= len(part) <= 5
+        return LEAST_IN_ROW <= len(part) - 1 <= MOST_IN_ROW
     if word == "again":
         return is_tuple_of(part, 5) and _are_bounds(part[2], part[3]) and _is_way(part[4])
     return word == "group" and len(part) == 2

@@ -104,7 +104,7 @@ def growth(size, pattern):
         sort, ring = double
         return Doubling(sorts.texts[sort], ring, sorts.frames.spelled(sort))
     climbs = Climbs(sorts)
-    ladder = climbs.ladder()
+    ladder = climbs.find_ladder()
     links = [sorts.leading(pair[1], later[0]) for pair, later in zip(ladder, ladder[1:])] + [""]
     steps = []
     for (one, other), link in zip(ladder, links):

@@ -7,10 +7,14 @@ from patternways.alike import are_alike as are_rows_alike
 from patternways.alike import compare
 from patternways.coming import comes, source
 from patternways.cuts import first_cut, is_cut
+from patternways.desks import Desk
 from patternways.joins import come_back, free_pairs
 from patternways.learning import enough, judge_enough
+from patternways.lines import rules_from, rules_lines
 from patternways.looks import judge_look, look, sure
+from patternways.products import counting, products
 from patternways.readings import change, edited, pieces
+from patternways.ropes import Rope
 from patternways.rows import changed, prospects, rests, standing
 from patternways.settling import exchange, settle
 from patternways.spans import compare_groups
@@ -110,6 +114,30 @@ class Examples(unittest.TestCase):
         deep = ('again', ('again', ('one', 'a'), 0, None, 'many'), 0, None, 'few')
         self.assertEqual([widths(1, twos, 'aa'), tries(1, twos, 'aa'), growth(1, twos).number,
                           growth(1, deep).shows(1, deep)], [[3, 5, 7], 15, 1, True])
+
+    def test_products(self):
+        even = (((1,), (0,)), (True, False))
+        self.assertEqual([products(even), counting(even).shows(even),
+                          counting(table_of(2, ('row', ('one', 'a'), ('one', 'b')))).number],
+                         [{(0, 1): '', (1, 0): 'a'}, True, 2])
+
+    def test_ropes(self):
+        even = (((1, 0), (0, 1)), (True, False))
+        rope = Rope(even, 'aba')
+        rope.put(1, 'a')
+        self.assertEqual([rope.kept, rope.is_word(), rope.stand(0, 2), rope.take(0), rope.kept, rope.is_word()],
+                         ['aaba', False, 0, None, 'aba', True])
+
+    def test_desks(self):
+        desk = Desk(self.rules, 'aaabb')
+        self.assertEqual(desk.edit((1, 1, 'b')), (1, [(1, 1, 2), (None, 2, 3), (1, 3, 4)], 1))
+        self.assertEqual(desk.apply(), 'aabbaabbabb')
+        self.assertEqual([desk.text, desk.undo(), desk.text, desk.journal()],
+                         ['aabbaabbabb', ('apply',), 'ababb', [('edit', 1, 1, 'b')]])
+
+    def test_lines(self):
+        self.assertEqual([rules_lines(self.rules), rules_from(rules_lines(self.rules)) == self.rules],
+                         ['size 2\nfind row 3 one a one a one b\nput word -\nfind one b\nput round a b\n', True])
 
 
 if __name__ == "__main__":

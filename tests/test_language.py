@@ -14,7 +14,7 @@ FOLDER = os.path.join(ROOT, "patternways")
 ERRORS = {"Exception", "ValueError", "TypeError", "KeyError", "IndexError", "LookupError"}
 CALLED = {"len", "range", "enumerate", "zip", "min", "max", "sum", "abs", "sorted", "reversed", "int", "str", "bool",
           "list", "tuple", "dict", "isinstance", "ord", "any", "all", "super"}
-NAMED = CALLED | ERRORS | {"bool", "int", "str", "list", "tuple", "dict"}
+NAMED = CALLED | ERRORS | {"bool", "int", "str", "list", "tuple", "dict", "property"}
 METHODS = set("""append clear copy count endswith extend find get index insert isalnum isalpha isdigit islower isspace
     isupper items join keys ljust lower lstrip partition pop remove replace reverse rfind rjust rpartition rsplit rstrip
     setdefault split splitlines startswith strip update upper values zfill bit_length""".split())
@@ -29,7 +29,7 @@ NO_WORDS = re.compile(r"\b(type|typing|typing_extensions|enum|Enum|IntEnum|StrEn
                       r"ABCMeta|namedtuple|NamedTuple|TypedDict|TYPE_CHECKING|abstractmethod)\b|dataclass|overload|"
                       r"contextmanager|_wall")
 STATEMENTS = (ast.FunctionDef, ast.ClassDef, ast.Return, ast.Assign, ast.AugAssign, ast.For, ast.While, ast.If,
-              ast.Raise, ast.Expr, ast.Pass, ast.Break, ast.Continue, ast.ImportFrom)
+              ast.Raise, ast.Expr, ast.Pass, ast.Break, ast.Continue, ast.ImportFrom, ast.Try)
 CHANGING = {"append", "clear", "extend", "insert", "pop", "remove", "reverse", "setdefault", "update"}
 
 
@@ -127,10 +127,27 @@ class Language(unittest.TestCase):
                 if not plain:
                     self.fail_at(name, node, "module level")
 
+    def test_tries(self):
+        # what is left of a try by any error is put right by plain assignments
+        for name, node in nodes(ast.Try):
+            if node.handlers or node.orelse:
+                self.fail_at(name, node, "handler")
+            for line in [part for step in node.finalbody for part in ([*step.body, *step.orelse, step.test] if isinstance(
+                    step, ast.If) else [step])]:
+                plain = isinstance(line, ast.Assign) and isinstance(line.value, (ast.Name, ast.Attribute)) or isinstance(
+                    line, ast.Compare) and ast.unparse(line).endswith(" is None")
+                if not plain:
+                    self.fail_at(name, line, "finally")
+
     def test_functions(self):
         for name, node in nodes(ast.FunctionDef):
-            if node.end_lineno - node.lineno + 1 > 40 or node.decorator_list or node.returns:
+            if node.end_lineno - node.lineno + 1 > 40 or node.returns:
                 self.fail_at(name, node, "function")
+            if [ast.unparse(part) for part in node.decorator_list] not in ([], ["property"]):
+                self.fail_at(name, node, "decorator")
+            if node.decorator_list and (len(node.args.args) != 1 or [
+                    part for part in ast.walk(node) if isinstance(part, (ast.Assign, ast.AugAssign))]):
+                self.fail_at(name, node, "property")
             if node.args.vararg or node.args.kwarg or node.args.kwonlyargs or node.args.posonlyargs:
                 self.fail_at(name, node, "parameters")
             if any(not isinstance(value, ast.Constant) for value in node.args.defaults):
