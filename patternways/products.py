@@ -107,8 +107,8 @@ def _are_stands(stands, many):
 def _height(later):
     """Return how many copies do the same as one more, as few as can be; None if no number of copies does."""
     stands = list(range(len(later)))
-    # as many copies as there are stands lead each stand to where it is led around, or stays
-    for height in range(len(later) + 1):
+    # behind fewer copies than there are stands, each stand is where it is led around, or where it stays
+    for height in range(len(later)):
         behind = [later[stand] for stand in stands]
         if behind == stands:
             return height

@@ -91,7 +91,7 @@ class Comings(Case):
         self.assertEqual(before((DROP,), (((1, 2), (2, 0), (0, 1)), (True, True, True))), ALL)
 
     def test_made_up_rows(self):
-        for chance in chances(100):
+        for chance in chances(70):
             size, many = chance.choice([1, 2, 2, 3]), chance.choice([1, 2, 3])
             row = few_row(chance, size, many) if chance.random() < 0.8 else (good_rules(chance, size),) * many
             table = good_table(chance, size, 4)
@@ -227,6 +227,8 @@ class Evidence(Case):
                            [list(triple) for triple in found.places], [triple[:2] for triple in found.places],
                            [(triple[0], triple[1], bool(triple[2])) for triple in found.places],
                            [(triple[0] + 90, *triple[1:]) for triple in found.places],
+                           [*found.places, (len(found.rests), (None,) * len(row), 0)],
+                           [*found.places, (-1, (None,) * len(row), 0)],
                            [(triple[0], triple[1], triple[2] + 1) for triple in found.places]]})
 
     def test_barren_made_otherwise(self):

@@ -196,6 +196,7 @@ class Language(unittest.TestCase):
     def test_names(self):
         for name, tree in TREES.items():
             top = defined(tree) + [found for found, _ in imported(tree)]
+            known = set(top) | set(bound(tree)) | NAMED
             classes = [node.name for node in tree.body if isinstance(node, ast.ClassDef)]
             for found in bound(tree):
                 self.assertFalse(hasattr(builtins, found) and not found.startswith("__"), f"{name}: {found}")
@@ -208,7 +209,6 @@ class Language(unittest.TestCase):
                     self.assertFalse(inside & (set(classes) | {found for found, _ in imported(tree)}),
                                      f"{name}:{node.lineno}")
                 if isinstance(node, ast.Name) and isinstance(node.ctx, ast.Load):
-                    known = set(top) | set(bound(tree)) | NAMED
                     self.assertIn(node.id, known, f"{name}:{node.lineno}")
                     self.assertNotEqual(node.id, "_", f"{name}:{node.lineno}")
                 if isinstance(node, ast.Attribute) and isinstance(node.ctx, ast.Store):

@@ -3,8 +3,10 @@
 import unittest
 
 from patternways.errors import BadPlace, BadStand, BadTable, BadText
+from patternways.products import product
 from patternways.ropes import Rope
 from patternways.tables import is_word
+from patternways.trees import Maker
 from tests.brute import STRANGE, chances, good_table
 from tests.case import ALL, EVEN, Case
 
@@ -93,6 +95,32 @@ class Ropes(Case):
                 if step % 25 == 0:
                     self.same(rope, table, text, chance)
             self.same(rope, table, text, chance)
+
+    def even(self, tree, table):
+        """The sides of a tree are about as high, and what it has of them is so; returns its height and its text."""
+        if tree is None:
+            return 0, ""
+        (left, ahead), (right, behind) = self.even(tree.left, table), self.even(tree.right, table)
+        self.assertLessEqual(abs(left - right), 1)
+        text = ahead + tree.letter + behind
+        self.assertEqual([tree.height, tree.length, tree.product], [max(left, right) + 1, len(text), product(table, text)])
+        return tree.height, text
+
+    def test_trees(self):
+        for chance in chances(20, 5):
+            table = good_table(chance, 2, 3)
+            maker = Maker(table[0], 0)
+            tree, text = maker.of_text("ab" * chance.randint(0, 20)), ""
+            _, text = self.even(tree, table)
+            for _ in range(80):
+                place = chance.choice([0, len(text), chance.randint(0, len(text))])
+                if chance.random() < 0.5 or place == len(text):
+                    tree = maker.with_letter(tree, place, "a")
+                    text = text[:place] + "a" + text[place:]
+                else:
+                    tree = maker.without_letter(tree, place)
+                    text = text[:place] + text[place + 1:]
+                self.assertEqual(self.even(tree, table)[1], text)
 
     def test_edits_on_one_side(self):
         for place in (lambda many: 0, lambda many: many, lambda many: many // 2):

@@ -5,12 +5,13 @@ import inspect
 import unittest
 from itertools import permutations
 
-from patternways import (agreeing, alike, coming, cuts, joins, learning, lines, looks, products, readings, rows, rules, settling,
-                         spans, tables, telling, trying, ways, words)
+from patternways import (agreeing, alike, coming, cuts, joins, learning, lines, looks, products, readings, rows, rules,
+                         settling, spans, tables, telling, trying, ways, words)
 from patternways.desks import Desk
-from patternways.errors import TooLarge, WayError
+from patternways.errors import (BadEdit, BadIndex, BadKind, BadLines, BadNumber, BadPattern, BadPieces, BadPlace, BadRow,
+                                BadRules, BadSize, BadTable, BadText, NoWord, TooLarge, Unequal, WayError)
 from patternways.ropes import Rope
-from tests.brute import chances, few_row, few_rules, good_rules, good_table, texts
+from tests.brute import STRANGE, chances, few_row, few_rules, good_rules, good_table, texts
 from tests.brute_ways import good_grouped
 from tests.case import ALL, DOC_RULES, EVEN, FAR_RULES, NO_RULES, NOTHING, TWOS, Case
 from tests.row_case import DROP, LAG, MARK, PAIRS, SWAP
@@ -54,8 +55,28 @@ CALLS = JUDGED + [
     (products.products, (EVEN,)), (products.product, (EVEN, "ab")), (lines.rules_lines, (DOC_RULES,)),
     (lines.table_lines, (EVEN,)), (lines.rules_from, (lines.rules_lines(DOC_RULES),)),
     (lines.table_from, (lines.table_lines(EVEN),))]
-MODULES = (agreeing, alike, coming, cuts, joins, learning, lines, looks, products, readings, rows, rules, settling, spans, tables,
-           telling, trying, ways, words)
+# the errors for each argument of each function, and of shows of what it returns
+WRONG = {
+    BadSize: (learning.learn,), (BadSize, BadPattern): (tables.table_of, trying.growth),
+    (BadSize, BadPattern, BadText): (ways.stops, ways.first_way, ways.ways, trying.tries, trying.widths),
+    (BadSize, BadPattern, BadPattern): (spans.compare_groups,), (BadTable, BadText): (
+        tables.is_word, words.word_index, products.product),
+    BadTable: (tables.least, words.how_many, words.longest, words.first_word, products.products, products.counting,
+               lines.table_lines),
+    (BadTable, BadTable): (tables.judge_alike, tables.judge_within, tables.are_alike, tables.is_within, tables.both,
+                           tables.either, tables.without), (BadTable, BadIndex): (words.nth_word,),
+    (BadTable, BadNumber): (words.count_words, learning.judge_enough, learning.enough), (BadRules, BadText): (
+        readings.pieces, readings.change, readings.outlook, cuts.is_cut),
+    BadRules: (rules.table_of_rules, readings.spots, looks.judge_look, looks.look, cuts.judge_cut, cuts.first_cut,
+               agreeing.judge_agreement, agreeing.agreement, joins.free_pairs, settling.settle, lines.rules_lines),
+    (BadRules, BadText, BadEdit): (readings.edited,), (BadRules, BadText, BadNumber): (looks.sure,),
+    (BadRules, BadKind, BadKind): (joins.judge_free, joins.is_free), (BadRules, BadPieces): (joins.come_back,),
+    (BadRules, BadRules): (settling.exchange,), BadRow: (rows.check_row, rows.rests, telling.telling, coming.comes),
+    (BadRow, BadText): (rows.changed, rows.prospects, telling.sure, coming.source), (BadRow, BadText, BadPlace): (
+        rows.standing,), (BadRow, BadRow): (alike.compare, alike.are_alike), (BadRow, BadTable): (coming.before,),
+    BadLines: (lines.rules_from, lines.table_from)}
+MODULES = (agreeing, alike, coming, cuts, joins, learning, lines, looks, products, readings, rows, rules, settling, spans,
+           tables, telling, trying, ways, words)
 
 
 def spoil(value):
@@ -102,8 +123,8 @@ class Answers(Case):
     def test_all_functions_are_called(self):
         listed = {function for function, _ in CALLS}
         for module in MODULES:
-            own = {thing for name, thing in vars(module).items() if not name.startswith("_") and inspect.isfunction(thing)
-                   and thing.__module__ == module.__name__}
+            own = {thing for name, thing in vars(module).items() if not name.startswith("_")
+                   and inspect.isfunction(thing) and thing.__module__ == module.__name__}
             self.assertLessEqual(own, listed)
         kinds = {type(function(*given)) for function, given in JUDGED}
         for module in MODULES:
@@ -178,6 +199,37 @@ class Answers(Case):
                     except (WayError, TypeError):
                         pass
             self.assertEqual(function(*given), found)
+
+    def test_wrong_arguments(self):
+        listed = {}
+        for kinds, functions in WRONG.items():
+            for function in functions:
+                listed[function] = kinds if isinstance(kinds, tuple) else (kinds,)
+        self.assertEqual(set(listed), {function for function, _ in CALLS})
+        for function, given in CALLS:
+            called = [function]
+            if (function, given) in JUDGED and function != settling.exchange:
+                called.append(function(*given).shows)
+            for place, kind in enumerate(listed[function]):
+                for bad in STRANGE:
+                    if kind == BadKind and bad is None or kind == BadPieces and bad in ([], ()):
+                        continue
+                    # what is behind the first wrong argument is wrong, too
+                    for other in ((*given[:place], bad, *given[place + 1:]),
+                                  (*given[:place], bad, *[None for _ in given[place + 1:]])):
+                        for some in called:
+                            with self.subTest(function=some, other=other):
+                                self.refuses(kind, some, *other)
+        self.refuses(BadNumber, learning.learn, 2, None, True)
+
+    def test_wrong_together(self):
+        for function in (tables.judge_alike, tables.both, tables.is_within):
+            self.refuses(Unequal, function, EVEN, (((0,),), (True,)))
+        self.refuses(Unequal, alike.compare, (SWAP,), (TWOS,))
+        self.refuses(Unequal, settling.exchange, TWOS, SWAP)
+        self.refuses(Unequal, coming.before, (SWAP,), (((0,),), (True,)))
+        self.refuses(Unequal, spans.compare_groups, 2, MANY, A)
+        self.refuses(NoWord, words.word_index, EVEN, "a")
 
     def test_booleans(self):
         true_rules = (2, ((("again", A, True, None, "many"), ("word", "")),))
