@@ -55,7 +55,7 @@ def comes(row):
     """Return the least table of the texts that come about by a row."""
     rests = rests_of_row(row)
     spelling = _Spelling(rests)
-    return table_of_net(spelling.net, spelling.start)
+    return table_of_net(spelling.net, spelling.starts)
 
 
 def before(row, table):
@@ -134,9 +134,9 @@ class _Spelling:
         self.places = {}
         self.queue = []
         self.known = {}
-        self.start = 0
+        self.starts = 0
         for pair in starts_of(rests):
-            self.start |= self._behind(pair)
+            self.starts |= self._behind(pair)
         at = 0
         while at < len(self.queue):
             pair, text = self.queue[at]

@@ -3,7 +3,7 @@
 from patternways.checks import check_table, check_text, table_size
 from patternways.errors import BadPlace, BadStand, BadText
 from patternways.kinds import is_between, is_text
-from patternways.trees import Maker, length_of, stand_behind, text_of
+from patternways.trees import Maker, length_of, stand_led_to, text_of
 
 
 class Rope:
@@ -43,7 +43,7 @@ class Rope:
     def is_word(self):
         """Return whether the text is a word of the table."""
         rows, ends = self._table
-        return ends[stand_behind(rows, self._tree, 0, length_of(self._tree), 0)]
+        return ends[stand_led_to(rows, self._tree, 0, length_of(self._tree), 0)]
 
     def stand(self, first, past, begin=0):
         """Return the stand to which the letters from a place on, ahead of another one, lead from a stand."""
@@ -53,7 +53,7 @@ class Rope:
         rows, _ = self._table
         if not is_between(begin, 0, len(rows) - 1):
             raise BadStand("this is no stand of the table")
-        return stand_behind(rows, self._tree, first, past, begin)
+        return stand_led_to(rows, self._tree, first, past, begin)
 
     def branch(self):
         """Return an independent rope in which everything is the same."""

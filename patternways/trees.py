@@ -44,17 +44,17 @@ def text_of(tree):
     return "".join(parts)
 
 
-def stand_behind(rows, tree, first, past, stand):
+def stand_led_to(rows, tree, first, past, stand):
     """Return the stand to which the letters of a tree from a place on, ahead of another one, lead from a stand."""
     if tree is None or first >= past:
         return stand
     if first <= 0 and past >= tree.length:
         return tree.product[stand]
     place = length_of(tree.left)
-    stand = stand_behind(rows, tree.left, first, min(past, place), stand)
+    stand = stand_led_to(rows, tree.left, first, min(past, place), stand)
     if first <= place < past:
         stand = rows[stand][LETTERS.index(tree.letter)]
-    return stand_behind(rows, tree.right, max(first - place - 1, 0), past - place - 1, stand)
+    return stand_led_to(rows, tree.right, max(first - place - 1, 0), past - place - 1, stand)
 
 
 class Maker:
@@ -72,12 +72,12 @@ class Maker:
         if text == "":
             return None
         place = len(text) // 2
-        return self._tree(self.of_text(text[:place]), text[place], self.of_text(text[place + 1:]))
+        return self._joined(self.of_text(text[:place]), text[place], self.of_text(text[place + 1:]))
 
     def with_letter(self, tree, place, letter):
         """Return a tree with a letter put at a place."""
         if tree is None:
-            return self._tree(None, letter, None)
+            return self._joined(None, letter, None)
         past = length_of(tree.left)
         if place <= past:
             return self._even(self.with_letter(tree.left, place, letter), tree.letter, tree.right)
@@ -94,7 +94,7 @@ class Maker:
             return tree.right if tree.left is None else tree.left
         return self._even(tree.left, _first_letter(tree.right), self.without_letter(tree.right, 0))
 
-    def _tree(self, left, letter, right):
+    def _joined(self, left, letter, right):
         self.made += 1
         return Tree(self.rows, left, letter, right)
 
@@ -103,16 +103,16 @@ class Maker:
         if height_of(left) > height_of(right) + 1:
             inner = left.right
             if height_of(left.left) >= height_of(inner):
-                return self._tree(left.left, left.letter, self._tree(inner, letter, right))
-            return self._tree(self._tree(left.left, left.letter, inner.left), inner.letter,
-                              self._tree(inner.right, letter, right))
+                return self._joined(left.left, left.letter, self._joined(inner, letter, right))
+            return self._joined(self._joined(left.left, left.letter, inner.left), inner.letter,
+                              self._joined(inner.right, letter, right))
         if height_of(right) > height_of(left) + 1:
             inner = right.left
             if height_of(right.right) >= height_of(inner):
-                return self._tree(self._tree(left, letter, inner), right.letter, right.right)
-            return self._tree(self._tree(left, letter, inner.left), inner.letter,
-                              self._tree(inner.right, right.letter, right.right))
-        return self._tree(left, letter, right)
+                return self._joined(self._joined(left, letter, inner), right.letter, right.right)
+            return self._joined(self._joined(left, letter, inner.left), inner.letter,
+                              self._joined(inner.right, right.letter, right.right))
+        return self._joined(left, letter, right)
 
 
 def _first_letter(tree):

@@ -21,8 +21,8 @@ def first_way(size, pattern, text):
     found = first_stops(frames, [(frames.first, first_marks(frames))], 0)
     for index, letter in enumerate(letter_numbers(text)):
         found = first_stops(frames, letters_taken(frames, found, letter), index + 1)
-    ways = [given(marks) for sort, marks in found if sort == ()]
-    return ways[0] if ways else None
+    firsts = [given(marks) for sort, marks in found if sort == ()]
+    return firsts[0] if firsts else None
 
 
 def ways(size, pattern, text):

@@ -55,7 +55,7 @@ class Cuts(Case):
 
     def test_made_up_rules(self):
         seen = set()
-        for chance in chances(80):
+        for chance in chances(50):
             size = chance.choice([1, 2, 3])
             rules = good_rules(chance, size)
             try:
