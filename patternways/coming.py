@@ -54,7 +54,7 @@ class Barren:
 def comes(row):
     """Return the least table of the texts that come about by a row."""
     rests = rests_of_row(row)
-    spelling = _Spelling(rests)
+    spelling = Spelling(rests)
     return table_of_net(spelling.net, spelling.starts)
 
 
@@ -121,7 +121,7 @@ def _searched(rests, text):
     return found, ends[0] if ends else None
 
 
-class _Spelling:
+class Spelling:
     """The net of all that comes about by a row: each of its places is a text that comes next, with a pair behind it.
 
     Place 0 has no letters: there, texts end.

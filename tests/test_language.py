@@ -21,8 +21,11 @@ METHODS = set("""append clear copy count endswith extend find get index insert i
 BARRED = {"register", "mro", "elements", "open", "input", "law", "version_info", "with_traceback", "add_note",
           "attrgetter", "breakpoint", "builtins", "compile", "copyright", "credits", "delattr", "dir", "eval", "exec",
           "exit", "gc", "getattr", "globals", "hasattr", "help", "id", "importlib", "license", "locals", "methodcaller",
-          "os", "quit", "setattr", "type", "vars", "sys", "_wall", "_cold", "_tuplegetter", "_outside", "_record",
-          "_written_out", "_member_names"}
+          "os", "quit", "setattr", "type", "vars", "sys"}
+PLAIN = re.compile(r"__[a-z]+__|_|_?[A-Za-z][A-Za-z0-9_]*")
+PLAIN_CLASS = re.compile(r"[A-Za-z][A-Za-z0-9_]*")
+KEPT_APART = re.compile(r"_(wall|pe_|dcw_|enum_|cm_|twin_re_|lay_|law_|stub_|sre|WallAttr).*|"
+                        r"_(cold|tuplegetter|outside|record|written_out|member_names)[0-9_]*")
 NO_ATTRIBUTES = {"items", "keys", "values", "pop", "update", "append", "clear", "extend", "insert", "remove", "reverse",
                  "setdefault", "sort", "args", "encode", "decode", "hex", "fromhex", "format"}
 NO_WORDS = re.compile(r"\b(type|typing|typing_extensions|enum|Enum|IntEnum|StrEnum|Flag|IntFlag|Generic|Protocol|ABC|"
@@ -76,6 +79,20 @@ def bound(node):
         elif isinstance(part, (ast.FunctionDef, ast.ClassDef)):
             found.append(part.name)
     return found
+
+
+def written(tree):
+    """All names that stand in a file: those that it binds and imports, its attributes, and its keywords."""
+    found = bound(tree) + [name for name, _ in imported(tree)]
+    found.extend(node.attr for node in ast.walk(tree) if isinstance(node, ast.Attribute))
+    return found + [node.arg for node in ast.walk(tree) if isinstance(node, ast.keyword) and node.arg]
+
+
+def misnamed(tree):
+    """The names of a file that are not plain ones, and the classes whose names do not begin with a letter."""
+    classes = [node.name for node in ast.walk(tree) if isinstance(node, ast.ClassDef)]
+    plain = [name for name in written(tree) if not PLAIN.fullmatch(name) or KEPT_APART.fullmatch(name)]
+    return sorted({*plain, *[name for name in classes if not PLAIN_CLASS.fullmatch(name)]})
 
 
 class Language(unittest.TestCase):
@@ -201,8 +218,6 @@ class Language(unittest.TestCase):
             for found in bound(tree):
                 self.assertFalse(hasattr(builtins, found) and not found.startswith("__"), f"{name}: {found}")
                 self.assertNotIn(found, BARRED, name)
-                self.assertRegex(found, r"^(__[a-z]+__|_|_?[A-Za-z][A-Za-z0-9_]*)$", name)
-                self.assertNotRegex(found, r"^_(wall|pe_|dcw_|enum_|cm_|twin_re_|lay_|law_|stub_|sre)", name)
             for node in ast.walk(tree):
                 if isinstance(node, (ast.FunctionDef, ast.Lambda)):
                     inside = set(bound(node)) - {getattr(node, "name", None)}
@@ -213,6 +228,20 @@ class Language(unittest.TestCase):
                     self.assertNotEqual(node.id, "_", f"{name}:{node.lineno}")
                 if isinstance(node, ast.Attribute) and isinstance(node.ctx, ast.Store):
                     self.assertNotIn(node.attr, NO_ATTRIBUTES | {"open", "input", "mro"}, f"{name}:{node.lineno}")
+
+    def test_plain_names(self):
+        for name, tree in TREES.items():
+            self.assertEqual(misnamed(tree), [], name)
+
+    def test_names_that_are_not_plain_are_seen(self):
+        for line, found in (("class _Spelling: pass", ["_Spelling"]), ("class _: pass", ["_"]),
+                            ("class __Odd__: pass", ["__Odd__"]), ("class _1: pass", ["_1"]),
+                            ("def made():\n    class _Inner: pass", ["_Inner"]), ("class Spelling: pass", []),
+                            ("class Low_2:\n    def _low(self): self._rows = 3", []), ("def _low(_n): return _n", []),
+                            ("__low = 1", ["__low"]), ("def low(self): self.__n = 1", ["__n"]), ("_2 = 1", ["_2"]),
+                            ("_cold_1 = low(_pe_x=1)", ["_cold_1", "_pe_x"]), ("_colder = low(_n=1)", [])):
+            with self.subTest(line=line):
+                self.assertEqual(misnamed(ast.parse(line)), found)
 
     def test_words(self):
         for name, text in TEXTS.items():
